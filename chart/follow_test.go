@@ -258,7 +258,7 @@ func some(m api.Mesh, roll func(n int) int) api.Chart {
 func TestManyFits(t *testing.T) {
 	roll := rolls(2)
 	yes, no := 0, 0
-	for range 4000 {
+	for range 2500 {
 		m := mixed(roll)
 		for range 4 {
 			c := some(m, roll)
